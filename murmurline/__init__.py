@@ -1,0 +1,1 @@
+"""Murmurline: words passed along rows of people of any length."""
