@@ -1,10 +1,15 @@
 """What several test files share."""
 
-import random
+import functools
+import itertools
 import signal
 import unittest
 
+from murmurline.casts import Cast
+from murmurline.people import Person
 from murmurline.tables import Table
+
+FORTY = 10 ** 40 - 1
 
 
 class MurmurCase(unittest.TestCase):
@@ -29,6 +34,17 @@ class MurmurCase(unittest.TestCase):
             signal.signal(signal.SIGALRM, before)
 
 
+class Draws:
+    """Numbers that look drawn but are counted out: the same ones in each run and on each Python."""
+
+    def __init__(self, number):
+        self.number = number
+
+    def below(self, limit):
+        self.number = (self.number * 1103515245 + 12345) % 2 ** 31
+        return (self.number >> 12) % limit
+
+
 def all_rows(size):
     """The rows of all tables of a size, for small sizes."""
     lists = [[word for word in range(size) if mask >> word & 1] for mask in range(2 ** size)]
@@ -43,12 +59,12 @@ def all_tables(size):
 
 
 def some_rows(size, count, seed=1):
-    """Rows of different density, the same ones in each run."""
-    chance = random.Random(f"{size} {seed}")
+    """Rows of different density."""
+    draws = Draws(size * 1000 + seed)
     found = []
     for index in range(count):
-        share = (1 + index % 5) / 6
-        found.append([[out for out in range(size) if chance.random() < share] for _ in range(size)])
+        share = 1 + index % 5
+        found.append([[out for out in range(size) if draws.below(6) < share] for _ in range(size)])
     return found
 
 
@@ -69,3 +85,40 @@ def behind(size, first, last):
     """The product of two sets of pairs, by its definition."""
     words = range(size)
     return {(a, c) for a in words for c in words if any((a, b) in first and (b, c) in last for b in words)}
+
+
+def cast_of(size, said):
+    """The cast in which, under each letter, somebody says what the rows of this letter tell."""
+    return Cast(size, **{letter: Person(list(range(size)), rows) for letter, rows in said.items()})
+
+
+def some_said(size, letters, seed, dense=2):
+    """For each letter rows in which a word may say up to `dense` words."""
+    draws = Draws(size * 1000 + len(letters) * 100 + seed)
+    return {
+        letter: [sorted({draws.below(size) for _ in range(1 + draws.below(dense))}) for _ in range(size)]
+        for letter in letters
+    }
+
+
+def all_strings(signs, most):
+    """All strings of the signs up to a length, the shorter ones first, each length in alphabetical order."""
+    return ["".join(chosen) for length in range(most + 1) for chosen in itertools.product(sorted(signs), repeat=length)]
+
+
+def some_patterns(letters, count, seed, longest=12):
+    draws = Draws(seed)
+    signs = list(letters) + ["?", "*", "*"]
+    return ["".join(signs[draws.below(len(signs))] for _ in range(draws.below(longest + 1))) for _ in range(count)]
+
+
+def open_ends(patterns):
+    """What may be left of the patterns before the next person of a row, stars that stand for nobody left out."""
+    return frozenset(pattern[at:] for pattern in patterns for at in range(len(pattern) + 1) if set(pattern[:at]) <= {"*"})
+
+
+@functools.cache
+def left_after(patterns, letter):
+    """What may be left of the patterns behind this person."""
+    kept = {pattern for pattern in patterns if pattern[:1] == "*"}
+    return open_ends(kept | {pattern[1:] for pattern in patterns if pattern[:1] in (letter, "?")})

@@ -6,9 +6,8 @@ from murmurline.casts import Cast
 from murmurline.errors import BadLetter, BadSize, SizeMismatch, TooMany, UnknownPerson
 from murmurline.people import Doubter, Knower, KnowingDoubter, Person
 from murmurline.tables import Table, joined
-from tests.helper import MurmurCase
+from tests.helper import FORTY, MurmurCase
 
-FORTY = 10 ** 40 - 1
 NO_LETTERS = ["", "ab", "A", "0", "*", "?", " ", "a ", "aa", "\u00e9", "\u00df", "`", "{", "\u0430"]
 
 

@@ -38,6 +38,39 @@ raises BadTable(index=1)
 >>> cast = Cast(2, a=Person([0, 1], [[1], [0]]))
 >>> cast.through("aba")
 raises UnknownPerson(letter='b', place=1)
+
+>>> from murmurline.casts import Cast
+>>> from murmurline.people import Person
+>>> from murmurline.patterns import rows_of
+>>> cast = Cast(2, a=Person([0, 1], [[1], [0]]), b=Person([0, 0], [[0], [1]]))
+>>> list(rows_of(cast, "*a?", 3))
+['aaa', 'aab', 'baa', 'bab']
+
+>>> from murmurline.apart import find_melt
+>>> from murmurline.casts import Cast
+>>> from murmurline.people import Person
+>>> cast = Cast(3, a=Person([0, 1, 2], [[1], [1, 2], [2]]))
+>>> find_melt(cast, "*", 0, 2)
+('aa', [0, 1, 2], [2, 2, 2])
+
+>>> from murmurline.apart import find_book
+>>> from murmurline.casts import Cast
+>>> from murmurline.people import Person
+>>> cast = Cast(2, a=Person([0, 1], [[1], [0]]))
+>>> find_book(cast, "*", 1, 0)
+[(0, 0, 1), (1, 0, 1)]
+
+>>> from murmurline.losing import lost_pair
+>>> from murmurline.tables import Table
+>>> lost_pair(Table([[0], [0]]), Table([[0], [1]]))
+(0, 0, [(0, 1)])
+
+>>> from murmurline.clues import Clues
+>>> from murmurline.tables import Table
+>>> clues = Clues(2)
+>>> number = clues.add(Table([[0], [0]]), Table.identity(2), Table([[0], [1]]))
+>>> clues.refute()
+(0, 0, 0, [(0, 0, 0, 1, 0)])
 """
 
 
@@ -56,7 +89,7 @@ def shown(statements):
 class Examples(unittest.TestCase):
     def test_each_example(self):
         examples = EXAMPLES.strip().split("\n\n")
-        self.assertEqual(len(examples), 7)
+        self.assertEqual(len(examples), 12)
         for example in examples:
             *statements, expected = example.split("\n")
             with self.subTest(example=example):

@@ -15,7 +15,8 @@ BUILTINS = set(
     "Exception ValueError TypeError KeyError IndexError LookupError ZeroDivisionError ArithmeticError "
     "OverflowError RuntimeError NotImplementedError AttributeError StopIteration NotImplemented".split()
 )
-LIBRARY = {"heapq", "math", "itertools"}
+# Not heapq and itertools, because of the order of tables and because they are iterated over and have a length.
+LIBRARY = {"math"}
 DUNDERS = set(
     "init eq repr str len enter exit call iter lt le gt ge ne add sub mul floordiv mod pow and or xor lshift rshift "
     "neg pos invert abs bool contains getitem setitem iadd isub imul".split()
@@ -52,6 +53,10 @@ def nodes(*kinds):
             if isinstance(node, kinds):
                 found.append((f"{path.name}:{getattr(node, 'lineno', '?')}", node))
     return found
+
+
+def is_yield(node):
+    return isinstance(node, (ast.Yield, ast.YieldFrom))
 
 
 def called(node):
@@ -121,14 +126,24 @@ class Language(unittest.TestCase):
             if called(node) in ("any", "all", "min", "max", "sum", "sorted"):
                 self.assertFalse(any(isinstance(part, ast.GeneratorExp) for part in node.args), place)
 
-    def test_sorted_takes_what_is_plainly_strings_or_numbers(self):
+    def test_sorted_min_and_max_take_what_is_plainly_strings_or_numbers(self):
         # Tables have an order of their own, which is none to sort by.
         for place, node in nodes(ast.Call):
-            if called(node) == "sorted":
+            if called(node) in ("sorted", "min", "max"):
                 keys = [ast.unparse(word.value) for word in node.keywords if word.arg == "key"]
-                listed = [part.elt for part in node.args if isinstance(part, ast.ListComp)]
+                listed = [part.elt if isinstance(part, ast.ListComp) else part for part in node.args]
                 plain = [called(part) for part in listed if isinstance(part, ast.Call)]
                 self.assertIn((keys + plain + [""])[0], ["str", "int", "len", "ord", "repr"], place)
+
+    def test_names_of_classes_and_generators(self):
+        generators = {node.name for _, node in nodes(ast.FunctionDef) if any(is_yield(part) for part in ast.walk(node))}
+        for place, node in nodes(ast.ClassDef):
+            self.assertRegex(node.name, "^[A-Za-z]", place)
+        for place, node in nodes(ast.Name):
+            self.assertFalse(node.id in generators and isinstance(node.ctx, ast.Store), place)
+        names = [node.name for _, node in nodes(ast.FunctionDef)]
+        for name in generators:
+            self.assertEqual(names.count(name), 1, name)
 
     def test_operators_do_not_add_in_place(self):
         # Lines have += of their own, so whatever an operator runs must not use the sign; tables are all operators.

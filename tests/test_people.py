@@ -5,9 +5,7 @@ import unittest
 from murmurline.errors import BadPerson, UnknownWord
 from murmurline.people import Doubter, Knower, KnowingDoubter, Person
 from murmurline.tables import Table
-from tests.helper import MurmurCase
-
-FORTY = 10 ** 40 - 1
+from tests.helper import FORTY, MurmurCase
 
 
 def plain(hears, says):

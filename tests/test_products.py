@@ -4,9 +4,7 @@ import unittest
 
 from murmurline.errors import BadCount, BadSize, SizeMismatch
 from murmurline.tables import Table, joined
-from tests.helper import MurmurCase, all_tables, behind, rows_of_pairs, some_tables
-
-FORTY = 10 ** 40 - 1
+from tests.helper import FORTY, MurmurCase, all_tables, behind, rows_of_pairs, some_tables
 
 
 def couples():

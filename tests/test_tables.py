@@ -4,9 +4,8 @@ import unittest
 
 from murmurline.errors import BadSize, BadTable, SizeMismatch, UnknownWord
 from murmurline.tables import Table
-from tests.helper import MurmurCase, all_rows, all_tables, pair_list, rows_of_pairs, some_rows, some_tables
+from tests.helper import FORTY, MurmurCase, all_rows, all_tables, pair_list, rows_of_pairs, some_rows, some_tables
 
-FORTY = 10 ** 40 - 1
 WRONG_SIZES = [-FORTY, -1, 0, 7, 8, 100, FORTY]
 
 
