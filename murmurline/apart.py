@@ -7,7 +7,7 @@ the two words first.
 
 from murmurline.errors import SameWord
 from murmurline.patterns import ANY_ROW, ANYONE, check_pattern, matches, past_stars, place_after
-from murmurline.tables import Table, check_words
+from murmurline.tables import Table, ascending, check_words
 
 
 def check_different(first, second, size):
@@ -152,32 +152,60 @@ def book_holds(cast, pattern, first, second, book):
     return all([needed in listed for triple in listed for needed in _needed(cast, pattern, triple)])
 
 
-def _before_person(cast, letters, melting):
-    """The pairs of words that one of these people can turn into a pair of the table."""
-    found = Table.empty(cast.size)
-    for letter in letters:
-        found = found | cast[letter] * melting * ~cast[letter]
+def _before_person(people, melting):
+    """The pairs of words that one of these people, given as table and turned table, can turn into one of the table."""
+    found = Table.empty(melting.size)
+    for table, turned in people:
+        found = found | table * melting * turned
     return found
 
 
-def _before_sign(cast, sign, melting):
-    """The pairs of words that some row for which the sign stands can turn into a pair of the table."""
-    if sign not in (ANYONE, ANY_ROW):
-        return _before_person(cast, [sign], melting)
-    found = _before_person(cast, cast.letters(), melting)
-    if sign == ANYONE:
-        return found
+def _before_anybody(people, melting):
+    """The pairs of words that some row of these people can turn into a pair of the table."""
+    found = _before_person(people, melting)
     while not found <= melting:
         melting = melting | found
-        found = _before_person(cast, cast.letters(), melting)
+        found = _before_person(people, melting)
+    return melting
+
+
+def _different_tables(cast):
+    """The different tables of the people: of informed people, for example, there may be many with the same table."""
+    tables = []
+    for letter in cast.letters():
+        if cast[letter] not in tables:
+            tables.append(cast[letter])
+    return tables
+
+
+def melting_words(cast, pattern):
+    """The table whose pairs of different words are those that melt in some row that matches the pattern."""
+    check_pattern(cast, pattern)
+    everybody = [(table, ~table) for table in _different_tables(cast)]
+    melting = Table.identity(cast.size)
+    for sign in pattern[::-1]:
+        if sign == ANY_ROW:
+            melting = _before_anybody(everybody, melting)
+        else:
+            people = everybody if sign == ANYONE else [(cast[sign], ~cast[sign])]
+            melting = _before_person(people, melting)
     return melting
 
 
 def apart_words(cast, pattern):
     """The table of the pairs of different words that stay apart for the pattern."""
-    check_pattern(cast, pattern)
-    melting = Table.identity(cast.size)
-    for sign in pattern[::-1]:
-        melting = _before_sign(cast, sign, melting)
+    melting = melting_words(cast, pattern)
     words = list(range(cast.size))
     return Table.of(cast.size, [(a, b) for a in words for b in words if a != b and (a, b) not in melting])
+
+
+def first_pair(words, table):
+    """The first pair of the table, in ascending order, of words low < high of the list, or None."""
+    listed = ascending(words, table.size)
+    pairs = [(low, high) for low in listed for high in listed if low < high and (low, high) in table]
+    return pairs[0] if pairs else None
+
+
+def melted_pair(table, words):
+    """The first pair low < high of words of the list out of which the same word can come, or None."""
+    return first_pair(words, table * ~table)

@@ -122,3 +122,43 @@ def left_after(patterns, letter):
     """What may be left of the patterns behind this person."""
     kept = {pattern for pattern in patterns if pattern[:1] == "*"}
     return open_ends(kept | {pattern[1:] for pattern in patterns if pattern[:1] in (letter, "?")})
+
+
+def outs_along(size, said, row):
+    """For each word the set of the words that come out of it along the row, told on from person to person."""
+    outs = [frozenset([word]) for word in range(size)]
+    for letter in row:
+        outs = [frozenset(out for told in some for out in said[letter][told]) for some in outs]
+    return tuple(outs)
+
+
+def table_along(size, said, row):
+    return Table([sorted(some) for some in outs_along(size, said, row)])
+
+
+def melts_along(size, said, row, first, second):
+    outs = outs_along(size, said, row)
+    return bool(outs[first] & outs[second])
+
+
+def told_on(rows, words):
+    return frozenset(out for word in words for out in rows[word])
+
+
+def least_melt(said, pattern, first, second):
+    """The least row in which the words melt, or None: all rows are tried, but none that repeats what another told."""
+    start = (frozenset([first]), frozenset([second]), open_ends([pattern]))
+    seen, rows = {start}, [("", *start)]
+    while rows:
+        longer = []
+        for row, firsts, seconds, left in rows:
+            for letter in sorted(said):
+                after = left_after(left, letter)
+                state = (told_on(said[letter], firsts), told_on(said[letter], seconds), after)
+                if after and state not in seen:
+                    if "" in after and state[0] & state[1]:
+                        return row + letter
+                    seen.add(state)
+                    longer.append((row + letter, *state))
+        rows = longer
+    return None

@@ -10,7 +10,8 @@ from murmurline.patterns import rows_of
 from murmurline.people import Person
 from murmurline.tables import Table
 from tests.helper import (
-    FORTY, Draws, MurmurCase, all_strings, cast_of, left_after, open_ends, rows_of_pairs, some_patterns, some_said,
+    FORTY, Draws, MurmurCase, all_strings, cast_of, least_melt, left_after, open_ends, rows_of_pairs, some_patterns,
+    some_said,
 )
 
 SWAPS, ZERO = [[1], [0]], [[0], [0]]
@@ -18,29 +19,6 @@ CHAIN = [[1], [2], [3], [4], [5], [5]]
 CIRCLE = [[1], [2], [3], [4], [5], [0]]
 JOIN = [[0], [1], [2], [3], [4], [0]]
 EIGHT = "abcdwxyz"
-
-
-def told_on(rows, words):
-    return frozenset(out for word in words for out in rows[word])
-
-
-def least_melt(said, pattern, first, second):
-    """The least row in which the words melt, or None: all rows are tried, but none that repeats what another told."""
-    start = (frozenset([first]), frozenset([second]), open_ends([pattern]))
-    seen, rows = {start}, [("", *start)]
-    while rows:
-        longer = []
-        for row, firsts, seconds, left in rows:
-            for letter in sorted(said):
-                after = left_after(left, letter)
-                state = (told_on(said[letter], firsts), told_on(said[letter], seconds), after)
-                if after and state not in seen:
-                    if "" in after and state[0] & state[1]:
-                        return row + letter
-                    seen.add(state)
-                    longer.append((row + letter, *state))
-        rows = longer
-    return None
 
 
 def needed(said, pattern, triple):

@@ -71,6 +71,40 @@ raises UnknownPerson(letter='b', place=1)
 >>> number = clues.add(Table([[0], [0]]), Table.identity(2), Table([[0], [1]]))
 >>> clues.refute()
 (0, 0, 0, [(0, 0, 0, 1, 0)])
+
+>>> from murmurline.casts import Cast
+>>> from murmurline.lots import Lot
+>>> from murmurline.people import Person
+>>> lot = Lot(Cast(2, a=Person([0, 1], [[1], [0]]), b=Person([0, 0], [[0], [1]])))
+>>> lot.names()
+['', 'a', 'b', 'ba']
+
+>>> from murmurline.casts import Cast
+>>> from murmurline.lots import Lot
+>>> from murmurline.people import Person
+>>> lot = Lot(Cast(2, a=Person([0, 1], [[1], [0]]), b=Person([0, 0], [[0], [1]])))
+>>> [lot.rhythm("a"), lot.behind("b", "ba"), lot.behind("b", "a"), lot.least("aab")]
+[(0, 2), 'a', None, 'b']
+
+>>> from murmurline.books import greatest_pairs
+>>> from murmurline.casts import Cast
+>>> from murmurline.people import Person
+>>> cast = Cast(5, a=Person([0, 1, 2, 3, 4], [[0, 1], [1, 2], [2, 3], [3, 4], [4, 0]]))
+>>> greatest_pairs(cast, "a")
+[(0, 0), (1, 2), (2, 4), (3, 1), (4, 3)]
+
+>>> from murmurline.casts import Cast
+>>> from murmurline.people import Person
+>>> from murmurline.swaps import least_order, swap_clash, swap_path
+>>> zero = Person([0, 0], [[0], [1]])
+>>> one = Person([1, 1], [[0], [1]])
+>>> cast = Cast(2, a=zero, b=one, c=Person([0, 1], [[0], [1]]))
+>>> [least_order(cast, "bca"), swap_path(cast, "cab", "abc"), swap_clash(cast, "ab", "ba")]
+['bac', [0, 1], ('order', 'ab')]
+
+>>> from murmurline.losses import subrows
+>>> list(subrows("abab", 2))
+['aa', 'ab', 'ba', 'bb']
 """
 
 
@@ -89,7 +123,7 @@ def shown(statements):
 class Examples(unittest.TestCase):
     def test_each_example(self):
         examples = EXAMPLES.strip().split("\n\n")
-        self.assertEqual(len(examples), 12)
+        self.assertEqual(len(examples), 17)
         for example in examples:
             *statements, expected = example.split("\n")
             with self.subTest(example=example):
