@@ -105,6 +105,23 @@ raises UnknownPerson(letter='b', place=1)
 >>> from murmurline.losses import subrows
 >>> list(subrows("abab", 2))
 ['aa', 'ab', 'ba', 'bb']
+
+>>> from murmurline.casts import Cast
+>>> from murmurline.echo import ranks
+>>> from murmurline.people import Person
+>>> ranks(Cast(3, a=Person([0, 1, 2], [[0, 2], [1], [1, 2]])))
+[0, 2, 1]
+
+>>> from murmurline.casts import Cast
+>>> from murmurline.lines import Line, attempt
+>>> from murmurline.people import Person
+>>> line = Line(Cast(2, a=Person([0, 1], [[1], [0]])))
+>>> attempt(line, [("add", "a"), ("take", 5)])
+raises Refused(index=1)
+
+>>> from murmurline.notes import parse_cast
+>>> parse_cast("size 2\\na: 0>0 1>-")
+raises BadLine(line=2)
 """
 
 
@@ -123,7 +140,7 @@ def shown(statements):
 class Examples(unittest.TestCase):
     def test_each_example(self):
         examples = EXAMPLES.strip().split("\n\n")
-        self.assertEqual(len(examples), 17)
+        self.assertEqual(len(examples), 20)
         for example in examples:
             *statements, expected = example.split("\n")
             with self.subTest(example=example):

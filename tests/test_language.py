@@ -63,6 +63,11 @@ def called(node):
     return node.func.id if isinstance(node.func, ast.Name) else ""
 
 
+def is_local(part):
+    """Whether an assignment is one to local variables alone."""
+    return isinstance(part, ast.Assign) and all(isinstance(target, ast.Name) for target in part.targets)
+
+
 class Language(unittest.TestCase):
     def test_the_folder_contains_python_files_alone(self):
         found = [path.name for path in FOLDER.iterdir() if path.name != "__pycache__"]
@@ -145,10 +150,29 @@ class Language(unittest.TestCase):
         for name in generators:
             self.assertEqual(names.count(name), 1, name)
 
-    def test_operators_do_not_add_in_place(self):
-        # Lines have += of their own, so whatever an operator runs must not use the sign; tables are all operators.
+    def test_operators_and_properties_do_not_add_in_place(self):
+        # Lines have += of their own, so whatever an operator or a property runs must not use the sign. Tables are all
+        # operators; of the other classes these methods themselves are looked at.
         for node in ast.walk(ast.parse((FOLDER / "tables.py").read_text())):
             self.assertNotIsInstance(node, ast.AugAssign)
+        for place, node in nodes(ast.FunctionDef):
+            read = any(ast.unparse(decorator) == "property" for decorator in node.decorator_list)
+            if read or node.name.startswith("__") and node.name not in ("__init__", "__iadd__", "__setitem__"):
+                for part in ast.walk(node):
+                    self.assertNotIsInstance(part, (ast.AugAssign, ast.Delete, ast.Yield), place)
+                    self.assertTrue(is_local(part) or not isinstance(part, ast.Assign), place)
+
+    def test_generators_are_iterated_at_once(self):
+        generators = {node.name for _, node in nodes(ast.FunctionDef) if any(is_yield(part) for part in ast.walk(node))}
+        self.assertEqual(generators, {"rows_of", "walk", "orders", "subrows"})
+        iterated = set()
+        for _, node in nodes(ast.For, ast.comprehension):
+            given = [node.iter] + (node.iter.args if isinstance(node.iter, ast.Call) else [])
+            iterated |= {ast.unparse(part) for part in given if isinstance(part, ast.Call)}
+        for place, node in nodes(ast.Call):
+            name = node.func.attr if isinstance(node.func, ast.Attribute) else called(node)
+            if name in generators:
+                self.assertIn(ast.unparse(node), iterated, place)
 
 
 if __name__ == "__main__":
