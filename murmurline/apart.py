@@ -184,6 +184,9 @@ def melting_words(cast, pattern):
     everybody = [(table, ~table) for table in _different_tables(cast)]
     melting = Table.identity(cast.size)
     for sign in pattern[::-1]:
+        # Where all words melt, they do so as well with anybody ahead of them, as everybody says something.
+        if len(melting) == cast.size * cast.size:
+            break
         if sign == ANY_ROW:
             melting = _before_anybody(everybody, melting)
         else:
